@@ -1,0 +1,1 @@
+"""Stridelanes: what a kernel of many lanes does to memory."""
