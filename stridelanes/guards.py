@@ -87,3 +87,15 @@ def met(guard, other):
     if first_from(low, step, rest) >= high:
         return None
     return (low, high, step, rest)
+
+
+def cut(guard, low, high):
+    """Return the guard of those lanes of a guard that are at least low and less than high."""
+    low = max(low, guard[0])
+    return (low, max(low, min(high, guard[1])), guard[2], guard[3])
+
+
+def first_lanes(guard, many):
+    """Return the guard of the first lanes of a guard: so many, if it has them."""
+    low, _, step, rest = guard
+    return cut(guard, low, first_from(low, step, rest) + many * step)

@@ -1,0 +1,69 @@
+"""Meetings: pairs of lanes of two sides that have one cell and are not in one wave.
+
+Sides and the wave 0 are those of trails. A meeting is harmless if both sides put the same integer there,
+otherwise harmful.
+"""
+
+from stridelanes.guards import count_lanes, cut, first_lanes, nth_lane
+from stridelanes.searching import row_of
+from stridelanes.squares import count_square, nth_square
+from stridelanes.trails import agreeing, count_apart, nth_apart, trail_of
+
+
+def count_meetings(one, other, wave):
+    """Return how many meetings two sides have."""
+    guard, a, b, _ = one
+    other_guard, other_a, other_b, _ = other
+    if a != 0 or other_a != 0:
+        return count_apart(trail_of(one, other), wave)
+    return count_square(guard, other_guard, wave) if b == other_b else 0
+
+
+def nth_meeting(one, other, number, wave):
+    """Return the meeting (i, j) of two sides with a number, ascending. There are so many."""
+    if one[1] != 0 or other[1] != 0:
+        return nth_apart(trail_of(one, other), number, wave)
+    return nth_square(one[0], other[0], number, wave)
+
+
+def count_harmless_meetings(one, other, wave):
+    """Return how many harmless meetings two sides have."""
+    guard, a, b, puts = one
+    other_guard, other_a, other_b, other_puts = other
+    if puts is None or other_puts is None:
+        return 0
+    if a != 0 or other_a != 0:
+        return count_apart(agreeing(trail_of(one, other), puts, other_puts), wave)
+    if b != other_b:
+        return 0
+    # All lanes have one cell, so what they put decides alone: it meets just as cells do.
+    (c, d), (other_c, other_d) = puts, other_puts
+    return count_meetings((guard, c, d, None), (other_guard, other_c, other_d, None), wave)
+
+
+def count_harmful_meetings(one, other, wave):
+    """Return how many harmful meetings two sides have."""
+    many = count_meetings(one, other, wave)
+    return many - count_harmless_meetings(one, other, wave) if many > 0 else 0
+
+
+def with_guard(side, guard):
+    """Return a side with another guard."""
+    _, a, b, puts = side
+    return (guard, a, b, puts)
+
+
+def first_harmful_meeting(one, other, wave):
+    """Return the least harmful meeting (i, j) of two sides. There is one."""
+    guard, other_guard = one[0], other[0]
+
+    def count_ahead_of_row(row):
+        return count_harmful_meetings(with_guard(one, first_lanes(guard, row)), other, wave)
+
+    i = nth_lane(guard, row_of(count_ahead_of_row, count_lanes(guard), 0))
+    alone = with_guard(one, cut(guard, i, i + 1))
+
+    def count_ahead_in_row(place):
+        return count_harmful_meetings(alone, with_guard(other, first_lanes(other_guard, place)), wave)
+
+    return (i, nth_lane(other_guard, row_of(count_ahead_in_row, count_lanes(other_guard), 0)))
