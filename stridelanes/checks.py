@@ -38,3 +38,9 @@ def check_two_statements(kernel, u, v):
     check_statement_number(kernel, v)
     if v <= u:
         raise InvalidNumber(v)
+
+
+def check_number_of_wave(kernel, wave, number):
+    """Raise InvalidNumber if a kernel has no wave with a number."""
+    if number < 0 or wave * number >= kernel.lanes:
+        raise InvalidNumber(number)

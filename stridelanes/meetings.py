@@ -43,8 +43,7 @@ def count_harmless_meetings(one, other, wave):
 
 def count_harmful_meetings(one, other, wave):
     """Return how many harmful meetings two sides have."""
-    many = count_meetings(one, other, wave)
-    return many - count_harmless_meetings(one, other, wave) if many > 0 else 0
+    return count_meetings(one, other, wave) - count_harmless_meetings(one, other, wave)
 
 
 def with_guard(side, guard):
@@ -58,12 +57,14 @@ def first_harmful_meeting(one, other, wave):
     guard, other_guard = one[0], other[0]
 
     def count_ahead_of_row(row):
+        """Return how many harmful meetings the lanes i ahead of the one with the number row have."""
         return count_harmful_meetings(with_guard(one, first_lanes(guard, row)), other, wave)
 
     i = nth_lane(guard, row_of(count_ahead_of_row, count_lanes(guard), 0))
     alone = with_guard(one, cut(guard, i, i + 1))
 
     def count_ahead_in_row(place):
+        """Return how many harmful meetings i has with the lanes j ahead of the one with the number place."""
         return count_harmful_meetings(alone, with_guard(other, first_lanes(other_guard, place)), wave)
 
     return (i, nth_lane(other_guard, row_of(count_ahead_in_row, count_lanes(other_guard), 0)))

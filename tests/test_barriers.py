@@ -170,6 +170,18 @@ class SmallTest(Case):
         self.assertEqual(needless_barriers(wave=10, kernel=kernel), [2, 3, 4])
         self.assertEqual(needless_barriers(kernel=kernel), [3, 4])
 
+    def test_wave_of_one_lane_where_it_is_left_out(self):
+        # The lanes 0 and 1 alone race, so waves of two lanes take all races away.
+        kernel = Kernel(4, [("put", (0, 1, 1, 0), "x", 0, 5, 0, 1), ("put", (1, 2, 1, 0), "x", 0, 5, 0, 2)], [1])
+        move = Kernel(4, [("move", (0, 2, 1, 0), "x", 1, 0, "x", 1, 1, 0)])
+        self.assertEqual([needs_parting(kernel, 0, 1), needs_parting(kernel, 0, 1, 2)], [True, False])
+        self.assertEqual([fewest_barriers(kernel), fewest_barriers(kernel, 2)], [[1], []])
+        self.assertEqual([parting_pairs(kernel), parting_pairs(kernel, 2)], [[(0, 1)], []])
+        self.assertEqual([needless_barriers(kernel), needless_barriers(kernel, 2)], [[], [1]])
+        self.assertEqual([stuck_race(move), stuck_race(move, 2)], [(0, 1, 0, 1), None])
+        self.assertEqual([fewest_barriers(move), fewest_barriers(move, 2)], [None, []])
+        self.assertEqual([parting_pairs(move), parting_pairs(move, 2)], [None, []])
+
 
 class FarTest(Case):
     def test_far_kernels(self):

@@ -5,7 +5,7 @@ from math import gcd, lcm
 
 from stridelanes import guards
 from stridelanes.errors import InvalidGuard, InvalidNumber
-from stridelanes.guards import count_lanes, has_lane, inverse, met, nth_lane
+from stridelanes.guards import count_lanes, cut, first_lanes, has_lane, inverse, met, nth_lane
 
 GREAT = 10 ** 30
 
@@ -132,6 +132,24 @@ class InverseTest(unittest.TestCase):
                     found = inverse(number, modulus)
                     self.assertTrue(0 <= found < modulus)
                     self.assertEqual(number * found % modulus, 1 % modulus)
+
+
+class CutTest(GuardCase):
+    def test_small_guards_against_lanes_one_by_one(self):
+        for guard in small_guards(7, 4):
+            lanes = lanes_one_by_one(guard)
+            for low in range(-2, 10):
+                for high in range(-2, 10):
+                    part = cut(guard, low, high)
+                    self.assertEqual(lanes_one_by_one(part), [lane for lane in lanes if low <= lane < high])
+                    self.assertEqual(count_lanes(part), len(lanes_one_by_one(part)))
+            for many in range(len(lanes) + 3):
+                self.assertEqual(lanes_one_by_one(first_lanes(guard, many)), lanes[:many])
+
+    def test_great_guards(self):
+        guard = (3, GREAT, 10 ** 15, 7)
+        self.assertEqual(count_lanes(first_lanes(guard, 10 ** 14)), 10 ** 14)
+        self.assertEqual(nth_lane(cut(guard, 10 ** 20, GREAT), 0), 10 ** 20 + 7)
 
 
 class MetTest(GuardCase):

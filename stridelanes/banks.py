@@ -1,0 +1,93 @@
+"""Banks: how many steps they need for what the lanes of a wave ask for at once."""
+
+from math import gcd
+
+from stridelanes.checks import check_access, check_number_of_wave, check_wave
+from stridelanes.doings import doings
+from stridelanes.errors import InvalidNumber
+from stridelanes.guards import count_lanes
+from stridelanes.periods import count_marked, nth_marked
+from stridelanes.waves import lanes_of_wave, waves_by_lanes
+
+MOST_BANKS = 4096
+
+
+def check_banks(banks):
+    """Raise InvalidNumber if a memory cannot have so many banks."""
+    if banks < 1 or banks > MOST_BANKS:
+        raise InvalidNumber(banks)
+
+
+def check_length(length):
+    """Raise InvalidNumber if a length is less than 1."""
+    if length < 1:
+        raise InvalidNumber(length)
+
+
+def degree_of_lanes(lanes, move, banks):
+    """Return the degree of so many lanes, the cell of each one being a move away from that of the one ahead."""
+    if move == 0:
+        return min(lanes, 1)
+    # So many neighbouring lanes have different banks; then the banks come again in the same order.
+    period = banks // gcd(move, banks)
+    return (lanes + period - 1) // period
+
+
+def degrees(kernel, access, wave, banks):
+    """Return a list of tuples (degree, waves): so many waves have such a degree, if it is not 0."""
+    guard, a, _, _ = doings(kernel)[access].side
+    return [(degree_of_lanes(lanes, a * guard[2], banks), waves) for lanes, waves in waves_by_lanes(guard, wave)]
+
+
+def degree_of_wave(kernel, access, wave, banks, number):
+    """Return the degree of the wave with a number."""
+    check_access(kernel, access)
+    check_wave(wave)
+    check_banks(banks)
+    check_number_of_wave(kernel, wave, number)
+    guard, a, _, _ = doings(kernel)[access].side
+    return degree_of_lanes(count_lanes(lanes_of_wave(guard, wave, number)), a * guard[2], banks)
+
+
+def total_degree(kernel, access, wave, banks):
+    """Return the sum of the degrees of all waves."""
+    check_access(kernel, access)
+    check_wave(wave)
+    check_banks(banks)
+    return sum([degree * waves for degree, waves in degrees(kernel, access, wave, banks)])
+
+
+def greatest_degree(kernel, access, wave, banks):
+    """Return the greatest of the degrees of all waves."""
+    check_access(kernel, access)
+    check_wave(wave)
+    check_banks(banks)
+    return max([degree for degree, waves in degrees(kernel, access, wave, banks) if waves > 0], default=0)
+
+
+def free_remainders(wave, banks):
+    """Return the ascending list of the remainders by banks that lengths free of conflicts have."""
+    return [rest for rest in range(banks) if degree_of_lanes(wave, gcd(rest, banks), banks) == 1]
+
+
+def least_length(wave, banks, length):
+    """Return the least length from a length on that is free of conflicts, or None if there is none."""
+    check_wave(wave)
+    check_banks(banks)
+    check_length(length)
+    marks = free_remainders(wave, banks)
+    if not marks:
+        return None
+    return nth_marked(marks, banks, count_marked(marks, banks, length))
+
+
+def count_lengths(wave, banks, low, high):
+    """Return how many lengths from low to high are free of conflicts."""
+    check_wave(wave)
+    check_banks(banks)
+    check_length(low)
+    # A high that is less than 1 is less than low, too.
+    if high < low:
+        raise InvalidNumber(high)
+    marks = free_remainders(wave, banks)
+    return count_marked(marks, banks, high + 1) - count_marked(marks, banks, low)
