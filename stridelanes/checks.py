@@ -1,7 +1,8 @@
 """The checks of arguments that several files have in common."""
 
-from stridelanes.errors import InvalidAccess, InvalidNumber
+from stridelanes.errors import InvalidAccess, InvalidArray, InvalidNumber, Racing
 from stridelanes.kernels import accesses
+from stridelanes.statements import is_array_name
 
 MOST_LANES = 32
 
@@ -44,3 +45,16 @@ def check_number_of_wave(kernel, wave, number):
     """Raise InvalidNumber if a kernel has no wave with a number."""
     if number < 0 or wave * number >= kernel.lanes:
         raise InvalidNumber(number)
+
+
+def check_array(array):
+    """Raise InvalidArray if a string is no name of an array."""
+    if not is_array_name(array):
+        raise InvalidArray(array)
+
+
+def check_racing(kernel):
+    """Raise Racing with the accesses of the first harmful race of a kernel, if it has one."""
+    pair = kernel.racing
+    if pair != ():
+        raise Racing(pair)

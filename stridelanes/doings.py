@@ -4,9 +4,9 @@ Whether two doings are in one phase does not count here.
 """
 
 from stridelanes.guards import has_lane
-from stridelanes.kernels import accesses, phase_of
 from stridelanes.meetings import count_harmful_meetings, count_meetings, first_harmful_meeting, nth_meeting
 from stridelanes.squares import count_triangle, nth_triangle
+from stridelanes.statements import accesses_of, count_up_to
 
 
 class Doing:
@@ -19,12 +19,16 @@ class Doing:
         self.side = (statement[1], a, b, statement[5:] if statement[0] == "put" else None)
 
 
+def doings_of(statements, barriers):
+    """Return the list of the doings of all accesses of the statements of a kernel with such barriers."""
+    phases = [count_up_to(barriers, number) for number in range(len(statements))]
+    return [Doing(number, access, statements[access[0]], phases[access[0]])
+            for number, access in enumerate(accesses_of(statements))]
+
+
 def doings(kernel):
     """Return the list of the doings of all accesses of a kernel."""
-    statements = kernel.statements
-    phases = [phase_of(kernel, number) for number in range(len(statements))]
-    return [Doing(number, access, statements[access[0]], phases[access[0]])
-            for number, access in enumerate(accesses(kernel))]
+    return doings_of(kernel.statements, kernel.barriers)
 
 
 def doings_of_statements(kernel):
@@ -91,6 +95,15 @@ def first_harmful_between(one, other, wave):
     if one.number != other.number:
         return first_harmful_meeting(one.side, other.side, wave)
     return nth_triangle(one.side[0], 0)
+
+
+def racing_pair(found):
+    """Return the numbers (e, f) of the first two doings with a harmful race by waves of one lane, or an empty tuple."""
+    for one in found:
+        for other in found[one.number:]:
+            if one.phase == other.phase and count_harmful_between(one, other, 1) > 0:
+                return (one.number, other.number)
+    return ()
 
 
 def first_harmful_among(pairs, wave):
