@@ -86,3 +86,60 @@ def calm_kernels(seed, many, most_lanes=9, most_statements=12, slopes=(1, 1, 2, 
         lanes, length = chance.randint(1, most_lanes), chance.randint(0, most_statements)
         kernel = Kernel(lanes, [an_unstuck_statement(chance, lanes, chance.choice(slopes)) for _ in range(length)])
         yield kernel.with_barriers(fewest_barriers(kernel) if number % 2 else list(range(1, length)))
+
+
+def memory_list(memory):
+    return sorted((array, cell, integer) for (array, cell), integer in memory.items())
+
+
+def queues_of(kernel, phase):
+    """The list of the statements of a phase that each lane does, by lanes that do some."""
+    found = {}
+    for number in phase:
+        for lane in lanes_of(kernel.statements[number][1]):
+            found.setdefault(lane, []).append(number)
+    return found
+
+
+def drawn_schedule(chance, kernel):
+    """A whole schedule in which the lanes take turns in any way."""
+    found = []
+    for phase in phases_of(kernel):
+        entries = [lane for lane, queue in queues_of(kernel, phase).items() for _ in queue]
+        chance.shuffle(entries)
+        found += entries
+    return found
+
+
+def run_turn_by_turn(kernel, schedule):
+    """A tuple (number, memory): the number of the first wrong entry, None if the schedule ends too early, or 'over'."""
+    waiting = [queues for queues in [queues_of(kernel, phase) for phase in phases_of(kernel)] if queues]
+    memory = {}
+    for number, lane in enumerate(schedule):
+        if not waiting or not waiting[0].get(lane):
+            return (number, None)
+        do(memory, kernel.statements[waiting[0][lane].pop(0)], lane)
+        if not any(waiting[0].values()):
+            waiting.pop(0)
+    return (None, None) if waiting else ("over", memory_list(memory))
+
+
+def all_outcomes(kernel):
+    """The ascending list of the memories of all schedules, each tried by itself."""
+    memories = [{}]
+    for phase in phases_of(kernel):
+        queues, found = queues_of(kernel, phase), {}
+
+        def go_on(memory, done):
+            waiting = [lane for lane in queues if done[lane] < len(queues[lane])]
+            if not waiting:
+                found[tuple(memory_list(memory))] = memory
+            for lane in waiting:
+                after = dict(memory)
+                do(after, kernel.statements[queues[lane][done[lane]]], lane)
+                go_on(after, {**done, lane: done[lane] + 1})
+
+        for memory in memories:
+            go_on(memory, dict.fromkeys(queues, 0))
+        memories = list(found.values())
+    return sorted(memory_list(memory) for memory in memories)
