@@ -1,12 +1,11 @@
 """Banks: how many steps they need for what the lanes of a wave ask for at once."""
 
-from math import gcd
+from math import gcd, isqrt
 
 from stridelanes.checks import check_access, check_number_of_wave, check_wave
 from stridelanes.doings import doings
 from stridelanes.errors import InvalidNumber
 from stridelanes.guards import count_lanes
-from stridelanes.periods import count_marked, nth_marked
 from stridelanes.waves import lanes_of_wave, waves_by_lanes
 
 MOST_BANKS = 4096
@@ -65,9 +64,30 @@ def greatest_degree(kernel, access, wave, banks):
     return max([degree for degree, waves in degrees(kernel, access, wave, banks) if waves > 0], default=0)
 
 
-def free_remainders(wave, banks):
-    """Return the ascending list of the remainders by banks that lengths free of conflicts have."""
-    return [rest for rest in range(banks) if degree_of_lanes(wave, gcd(rest, banks), banks) == 1]
+def divisors(number):
+    """Return the ascending list of the divisors of a number."""
+    small = [divisor for divisor in range(1, isqrt(number) + 1) if number % divisor == 0]
+    return small + [number // divisor for divisor in small[::-1] if divisor * divisor != number]
+
+
+def is_free_length(wave, banks, length):
+    """Tell whether a length is free of conflicts, as all lanes of a full wave then have different banks."""
+    return wave * gcd(length, banks) <= banks
+
+
+def signed_divisors(wave, banks):
+    """Return a list of tuples (divisor, times) that counts the lengths free of conflicts.
+
+    Of the divisors of a length, those of the list have times that make 1 together if it is free of conflicts, and 0
+    otherwise. The divisors that it has in common with the banks decide that, so such a list can be found.
+    """
+    found = []
+    for divisor in divisors(banks):
+        before = sum([times for earlier, times in found if divisor % earlier == 0])
+        wanted = 1 if is_free_length(wave, banks, divisor) else 0
+        if before != wanted:
+            found.append((divisor, wanted - before))
+    return found
 
 
 def least_length(wave, banks, length):
@@ -75,10 +95,13 @@ def least_length(wave, banks, length):
     check_wave(wave)
     check_banks(banks)
     check_length(length)
-    marks = free_remainders(wave, banks)
-    if not marks:
+    if wave > banks:
         return None
-    return nth_marked(marks, banks, count_marked(marks, banks, length))
+    # A length without a common divisor with the banks is free, and of so few banks there is always one nearby.
+    found = length
+    while not is_free_length(wave, banks, found):
+        found += 1
+    return found
 
 
 def count_lengths(wave, banks, low, high):
@@ -89,5 +112,5 @@ def count_lengths(wave, banks, low, high):
     # A high that is less than 1 is less than low, too.
     if high < low:
         raise InvalidNumber(high)
-    marks = free_remainders(wave, banks)
-    return count_marked(marks, banks, high + 1) - count_marked(marks, banks, low)
+    ahead = low - 1
+    return sum([times * (high // divisor - ahead // divisor) for divisor, times in signed_divisors(wave, banks)])

@@ -2,6 +2,7 @@
 
 import random
 from collections import Counter
+from math import gcd
 
 from plain import Case, FEW, GREAT, MANY, NO_WAVES, lanes_of, small_kernels
 from stridelanes import banks as module
@@ -196,6 +197,19 @@ class LengthsTest(Case):
             self.assertEqual(count_lengths(wave, banks, length, least), 1)
             if least > length:
                 self.assertEqual(count_lengths(wave, banks, length, least - 1), 0)
+
+    def test_many_banks_of_all_kinds(self):
+        # Without common divisors, with many of them, and with squares of primes; looked at by one period.
+        for banks in (4096, 4095, 4093, 2310, 2520, 3600, 961):
+            for wave in (1, 2, 3, 7, 31, 32):
+                free = [length for length in range(1, 2 * banks + 1) if gcd(length, banks) * wave <= banks]
+                for low in (1, 2, banks // 2, banks - 1, banks):
+                    self.assertEqual(least_length(wave, banks, low), next(length for length in free if length >= low))
+                    for high in (low, low + 30, low + banks // 3, low + banks):
+                        many = len([length for length in free if low <= length <= high])
+                        self.assertEqual(count_lengths(wave, banks, low, high), many)
+                        turns = 10 ** 26 * banks
+                        self.assertEqual(count_lengths(wave, banks, low + turns, high + turns), many)
 
 
 def free_far(banks, low, most, many=200):
