@@ -2,8 +2,8 @@
 
 from math import gcd, isqrt
 
-from stridelanes.checks import check_access, check_number_of_wave, check_wave
-from stridelanes.doings import doings
+from stridelanes.checks import check_number_of_wave, check_wave
+from stridelanes.choosing import doing_at
 from stridelanes.errors import InvalidNumber
 from stridelanes.guards import count_lanes
 from stridelanes.waves import lanes_of_wave, waves_by_lanes
@@ -33,34 +33,29 @@ def degree_of_lanes(lanes, move, banks):
 
 
 def degrees(kernel, access, wave, banks):
-    """Return a list of tuples (degree, waves): so many waves have such a degree, if it is not 0."""
-    guard, a, _, _ = doings(kernel)[access].side
+    """Check what is asked; return a list of tuples (degree, waves): so many waves have such a degree, not 0."""
+    guard, a, _, _ = doing_at(kernel, access).side
+    check_wave(wave)
+    check_banks(banks)
     return [(degree_of_lanes(lanes, a * guard[2], banks), waves) for lanes, waves in waves_by_lanes(guard, wave)]
 
 
 def degree_of_wave(kernel, access, wave, banks, number):
     """Return the degree of the wave with a number."""
-    check_access(kernel, access)
+    guard, a, _, _ = doing_at(kernel, access).side
     check_wave(wave)
     check_banks(banks)
     check_number_of_wave(kernel, wave, number)
-    guard, a, _, _ = doings(kernel)[access].side
     return degree_of_lanes(count_lanes(lanes_of_wave(guard, wave, number)), a * guard[2], banks)
 
 
 def total_degree(kernel, access, wave, banks):
     """Return the sum of the degrees of all waves."""
-    check_access(kernel, access)
-    check_wave(wave)
-    check_banks(banks)
     return sum([degree * waves for degree, waves in degrees(kernel, access, wave, banks)])
 
 
 def greatest_degree(kernel, access, wave, banks):
     """Return the greatest of the degrees of all waves."""
-    check_access(kernel, access)
-    check_wave(wave)
-    check_banks(banks)
     return max([degree for degree, waves in degrees(kernel, access, wave, banks) if waves > 0], default=0)
 
 

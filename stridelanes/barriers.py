@@ -1,14 +1,17 @@
 """Barriers: which statements need one between them, and the fewest that are enough."""
 
 from stridelanes.checks import check_two_statements, check_wave
-from stridelanes.doings import doings, doings_of_statements, first_harmful_among, is_harm_between
+from stridelanes.choosing import rivals_of_two
+from stridelanes.doings import (doings_by_statements, first_harmful_among, is_any_harmful, rivals_between,
+                                rivals_within)
 
 
 def pairs_to_part(kernel, wave):
     """Return the ascending list of all pairs (u, v) of statements that need parting."""
-    groups = doings_of_statements(kernel)
+    groups = doings_by_statements(kernel.statements)
     many = len(groups)
-    return [(u, v) for u in range(many) for v in range(u + 1, many) if is_harm_between(groups[u], groups[v], wave)]
+    return [(u, v) for u in range(many) for v in range(u + 1, many)
+            if is_any_harmful(rivals_between(groups[u], groups[v]), wave)]
 
 
 def pairs_that_end_first(pairs):
@@ -31,16 +34,13 @@ def needs_parting(kernel, u, v, wave=1):
     """Tell whether two statements need parting, in whatever phases they are."""
     check_two_statements(kernel, u, v)
     check_wave(wave)
-    groups = doings_of_statements(kernel)
-    return is_harm_between(groups[u], groups[v], wave)
+    return is_any_harmful(rivals_of_two(kernel, u, v), wave)
 
 
 def stuck_race(kernel, wave=1):
     """Return the least harmful race (e, f, i, j) that counts within one statement, or None."""
     check_wave(wave)
-    found = doings(kernel)
-    pairs = [(one, other) for one in found for other in found[one.number:] if one.statement == other.statement]
-    return first_harmful_among(pairs, wave)
+    return first_harmful_among(rivals_within(doings_by_statements(kernel.statements)), wave)
 
 
 def parting_pairs(kernel, wave=1):

@@ -1,7 +1,6 @@
 """The checks of arguments that several files have in common."""
 
-from stridelanes.errors import InvalidAccess, InvalidArray, InvalidNumber, Racing
-from stridelanes.kernels import accesses
+from stridelanes.errors import InvalidArray, InvalidNumber, Racing
 from stridelanes.statements import is_array_name
 
 MOST_LANES = 32
@@ -11,20 +10,6 @@ def check_wave(wave):
     """Raise InvalidNumber if no wave has so many lanes."""
     if wave < 1 or wave > MOST_LANES:
         raise InvalidNumber(wave)
-
-
-def check_access(kernel, number):
-    """Raise InvalidAccess if a kernel has no access with a number."""
-    if number < 0 or number >= len(accesses(kernel)):
-        raise InvalidAccess(number)
-
-
-def check_pair(kernel, e, f):
-    """Raise InvalidAccess for the first of two numbers of accesses that is wrong."""
-    check_access(kernel, e)
-    check_access(kernel, f)
-    if f < e:
-        raise InvalidAccess(f)
 
 
 def check_statement_number(kernel, statement):

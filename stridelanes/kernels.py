@@ -1,6 +1,6 @@
 """Kernels: statements that many lanes do at once, with barriers between them."""
 
-from stridelanes.doings import doings_of, racing_pair
+from stridelanes.doings import racing_pair, rivals_in_phases
 from stridelanes.errors import InvalidBarrier, InvalidLanes, InvalidNumber, InvalidStatement, UnlikeLanes
 from stridelanes.statements import accesses_of, count_up_to, is_statement, mirrored_statement
 
@@ -58,7 +58,7 @@ class Kernel:
     def racing(self):
         """The accesses (e, f) of the first harmful race, the empty tuple if there is none."""
         if self._racing is None:
-            self._racing = racing_pair(doings_of(self._statements, self._barriers))
+            self._racing = racing_pair(rivals_in_phases(self._statements, self._barriers))
         return self._racing
 
     def __len__(self):

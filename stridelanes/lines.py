@@ -2,8 +2,8 @@
 
 from math import gcd
 
-from stridelanes.checks import check_access, check_number_of_wave, check_wave
-from stridelanes.doings import doings
+from stridelanes.checks import check_number_of_wave, check_wave
+from stridelanes.choosing import doing_at
 from stridelanes.errors import InvalidNumber
 from stridelanes.guards import count_lanes, nth_lane
 from stridelanes.sums import sum_of_quotients
@@ -18,11 +18,10 @@ def check_size(size):
 
 def lines_of_wave(kernel, access, wave, size, number):
     """Return how many lines the wave with a number touches with an access."""
-    check_access(kernel, access)
+    guard, a, b, _ = doing_at(kernel, access).side
     check_wave(wave)
     check_size(size)
     check_number_of_wave(kernel, wave, number)
-    guard, a, b, _ = doings(kernel)[access].side
     lanes = lanes_of_wave(guard, wave, number)
     return len({(a * nth_lane(lanes, place) + b) // size for place in range(count_lanes(lanes))})
 
@@ -50,10 +49,9 @@ def count_changes(side, wave, size):
 
 def count_lines(kernel, access, wave, size):
     """Return how many lines all waves touch with an access, each counted by itself."""
-    check_access(kernel, access)
+    side = doing_at(kernel, access).side
     check_wave(wave)
     check_size(size)
-    side = doings(kernel)[access].side
     guard, a, _, _ = side
     if guard[2] >= wave or abs(a) * guard[2] >= size:
         # No two lanes of one wave touch one line.

@@ -9,6 +9,12 @@ ITEMS = {"put": 7, "move": 9, "sum": 11}
 # Behind each array stand the a and the b of its cell.
 ARRAYS = {"put": (2,), "move": (2, 5), "sum": (2, 5, 8)}
 
+# At which item the array stands that is written.
+WRITTEN = 2
+
+# At which items the arrays of the accesses stand, in the order of their numbers.
+ACCESSES = {"put": (2,), "move": (5, 2), "sum": (5, 8, 2)}
+
 # At which items the pairs stand that mean a * lane + b.
 PAIRS = {"put": (3, 5), "move": (3, 6), "sum": (3, 6, 9)}
 
@@ -46,20 +52,16 @@ def mirrored_statement(statement, lanes):
     return tuple(items)
 
 
-def access_at(statement, number, word, place):
-    """Return the access with a word to the array that stands at a place in the statement with a number."""
+def access_at(statement, number, place):
+    """Return the access to the array that stands at a place in the statement with a number."""
+    word = "write" if place == WRITTEN else "read"
     return (number, word, statement[place], statement[place + 1], statement[place + 2])
 
 
 def accesses_of(statements):
     """Return the list of all accesses of statements: of each one its reads, then its write."""
-    found = []
-    for number, statement in enumerate(statements):
-        written, *sources = ARRAYS[statement[0]]
-        for place in sources:
-            found.append(access_at(statement, number, "read", place))
-        found.append(access_at(statement, number, "write", written))
-    return found
+    return [access_at(statement, number, place) for number, statement in enumerate(statements)
+            for place in ACCESSES[statement[0]]]
 
 
 def count_up_to(barriers, statement):

@@ -12,55 +12,56 @@ lane is together with itself.
 
 from math import gcd
 
-from stridelanes.guards import count_lanes, cut, inverse, met, nth_lane
+from stridelanes.guards import first_from, inverse
 from stridelanes.periods import count_marked, nth_marked
 
 NO_PAIRS = (0, 0, 0, 0, 0)
 
 
-def lanes_within(side, least, most):
-    """Return the guard of the lanes of a side whose cells are from least to most."""
-    guard, a, b, _ = side
-    if a == 0:
-        return guard if least <= b <= most else cut(guard, 0, 0)
-    if a < 0:
-        a, b, least, most = -a, -b, -most, -least
-    return cut(guard, -((b - least) // a), (most - b) // a + 1)
+def lanes_in_row(guard):
+    """Return (first, many): the lanes of a guard are first + step * k for k from 0 on, below many."""
+    low, high, step, rest = guard
+    first = first_from(low, step, rest)
+    return (first, (high - first + step - 1) // step)
 
 
-def lanes_with_partner(one, other):
-    """Return the guard of the lanes of one side whose cell some lane of the other side has, or None.
+def places_between(start, growth, many):
+    """Return (low, high): for k from low on, below high, start + growth * k is from 0 on, below many.
 
-    The a of the other side is not 0.
+    The growth is not 0.
     """
-    guard, a, b, _ = one
-    (low, high, step, rest), other_a, other_b, _ = other
-    if low == high:
-        return None
-    ends = (other_a * low + other_b, other_a * (high - 1) + other_b)
-    # The cells of all integers with the remainder rest by step come again with this period.
-    period = abs(other_a) * step
-    wanted = other_a * rest + other_b - b
-    common = gcd(a, period)
-    if wanted % common != 0:
-        return None
-    turns = period // common
-    lane = wanted // common * inverse(a // common, turns) % turns
-    return met(lanes_within(one, min(ends), max(ends)), (0, guard[1], turns, lane))
+    if growth < 0:
+        start, growth = many - 1 - start, -growth
+    return (-(start // growth), (many - 1 - start) // growth + 1)
 
 
 def trail_of(one, other):
     """Return the trail of the pairs of lanes of two sides that have one cell. Not both a are 0."""
-    if other[1] == 0:
-        j, i, j_step, i_step, many = trail_of(other, one)
-        return (i, j, i_step, j_step, many)
-    _, a, b, _ = one
-    _, other_a, other_b, _ = other
-    found = lanes_with_partner(one, other)
-    if found is None:
+    guard, a, b, _ = one
+    other_guard, other_a, other_b, _ = other
+    step, other_step = guard[2], other_guard[2]
+    (first, many), (other_first, other_many) = lanes_in_row(guard), lanes_in_row(other_guard)
+    # The lanes first + step * x and other_first + other_step * y have one cell where move * x - other_move * y = gap.
+    move, other_move = a * step, other_a * other_step
+    gap = other_a * other_first + other_b - a * first - b
+    common = gcd(move, other_move)
+    if gap % common != 0:
         return NO_PAIRS
-    i, i_step = nth_lane(found, 0), found[2]
-    return (i, (a * i + b - other_b) // other_a, i_step, a * i_step // other_a, count_lanes(found))
+    if other_move == 0:
+        x = gap // move
+        return (first + step * x, other_first, 0, other_step, other_many) if 0 <= x < many else NO_PAIRS
+    x_step = abs(other_move) // common
+    x = gap // common * inverse(move // common, x_step) % x_step
+    y, y_step = (move * x - gap) // other_move, move * x_step // other_move
+    low, high = 0, (many - 1 - x) // x_step + 1
+    if y_step != 0:
+        least, end = places_between(y, y_step, other_many)
+        low, high = max(low, least), min(high, end)
+    elif y < 0 or y >= other_many:
+        return NO_PAIRS
+    i, i_step = first + step * (x + x_step * low), step * x_step
+    j, j_step = other_first + other_step * (y + y_step * low), other_step * y_step
+    return (i, j, i_step, j_step, high - low) if low < high else NO_PAIRS
 
 
 def pair_at(trail, k):
@@ -89,19 +90,25 @@ def places_together(trail, wave):
 
 
 def marks_apart(trail, wave):
-    """Return (marks, period): the places at which a trail with equal steps has lanes apart."""
-    i, j, step, _, _ = trail
+    """Return (marks, period): the places at which a trail with equal steps has lanes apart.
+
+    Places behind the end of the trail count for nothing.
+    """
+    i, j, step, _, many = trail
     if abs(j - i) >= wave:
         return ([0], 1)
     period = wave // gcd(step, wave)
     # Only the place of i within its wave counts, and so small numbers do.
     place, turn, gap = i % wave, step % wave, j - i
-    return ([k for k in range(period) if not 0 <= (place + turn * k) % wave + gap < wave], period)
+    places = range(min(period, many))
+    return ([k for k in places if not 0 <= (place + turn * k) % wave + gap < wave], period)
 
 
 def count_apart(trail, wave):
     """Return how many pairs of a trail have lanes apart."""
     _, _, i_step, j_step, many = trail
+    if wave == 0 or many == 0:
+        return many
     if i_step != j_step:
         return many - len(places_together(trail, wave))
     marks, period = marks_apart(trail, wave)

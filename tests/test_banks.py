@@ -83,6 +83,11 @@ class SmallTest(Case):
             self.agrees(kernel, 0, 8, banks)
             self.assertEqual((total_degree(kernel, 0, 8, banks), greatest_degree(kernel, 0, 8, banks)), (3, 1))
 
+    def test_all_accesses_of_many_statements(self):
+        for number, kernel in enumerate(small_kernels(57, 30, most_lanes=40, most_statements=12)):
+            for access in range(len(accesses(kernel))):
+                self.agrees(kernel, access, (1, 3, 4, 32)[number % 4], (1, 2, 5, 8, 32)[access % 5])
+
     def test_guards_without_lanes(self):
         for guard in ((0, 0, 1, 0), (8, 8, 1, 0), (21, 21, 1, 0), (5, 6, 7, 4), (8, 9, 2, 1), (3, 3, 40, 0)):
             for a in (-1, 0, 2):

@@ -55,6 +55,11 @@ class SmallTest(Case):
         for number, kernel in enumerate(small_kernels(12, 60, most_lanes=75, most_statements=3)):
             self.agrees(kernel, WAVES[number % len(WAVES)])
 
+    def test_kernels_of_many_statements(self):
+        for number, kernel in enumerate(small_kernels(17, 20, most_lanes=5, most_statements=12)):
+            self.agrees(kernel, WAVES[number % 4])
+            self.agrees_on_lanes(kernel)
+
     def test_cells_times_a_great_factor(self):
         for number, kernel in enumerate(small_kernels(13, 100, factor=GREAT)):
             self.agrees(kernel, WAVES[number % len(WAVES)])

@@ -58,6 +58,11 @@ class SmallTest(Case):
             for access in range(len(accesses(kernel))):
                 self.agrees(kernel, access, chance.randint(1, 32), chance.choice((1, 2, 3, 4, 7, 8, 16, 50, 200)))
 
+    def test_all_accesses_of_many_statements(self):
+        for number, kernel in enumerate(small_kernels(43, 30, most_lanes=40, most_statements=12)):
+            for access in range(len(accesses(kernel))):
+                self.agrees(kernel, access, (1, 3, 4, 32)[number % 4], (1, 2, 5, 8, 32)[access % 5])
+
     def test_slopes_and_sizes(self):
         for a in range(-5, 6):
             for b in (-19, -4, 0, 3):

@@ -94,6 +94,23 @@ class SmallTest(Case):
         for number, kernel in enumerate(busy_kernels(33, 30, most_lanes=70, most_statements=4)):
             self.agrees(kernel, WAVES[number % len(WAVES)])
 
+    def test_kernels_of_many_statements(self):
+        most = 0
+        for number, kernel in enumerate(busy_kernels(40, 60, most_lanes=6, most_statements=12)):
+            wave = WAVES[number % 3]
+            if stuck(kernel, wave) is not None:
+                self.assertIsNone(chain(kernel, wave))
+                continue
+            found = levels(kernel, wave)
+            most = max(most, *found, 0)
+            order = sorted(range(len(kernel)), key=lambda at: (found[at], at))
+            self.assertEqual(fewest_by_moving(kernel, wave), max(found, default=0))
+            self.assertEqual(best_order(kernel, wave)[0], order)
+            self.assertEqual(best_order(kernel, wave)[1],
+                             [at for at in range(1, len(order)) if found[order[at]] > found[order[at - 1]]])
+            self.is_chain(kernel, chain(kernel, wave), wave, max(found, default=0))
+        self.assertGreater(most, 4)
+
     def test_touches_of_all_pairs(self):
         kernels = [*small_kernels(34, 400), *busy_kernels(35, 200), *small_kernels(36, 60, slopes=(0,)),
                    *small_kernels(37, 60, factor=GREAT), *small_kernels(38, 20, most_lanes=60, most_statements=2)]

@@ -59,6 +59,11 @@ class SmallTest(Case):
             for wave in (WAVES[number % len(WAVES)], 16):
                 self.agrees(kernel, wave)
 
+    def test_kernels_of_many_statements(self):
+        for number, kernel in enumerate(small_kernels(16, 12, most_lanes=5, most_statements=12)):
+            self.agrees(kernel, WAVES[number % 4])
+            self.agrees_on_lanes(kernel, WAVES[number % 4])
+
     def test_one_cell_of_all_lanes(self):
         for number, kernel in enumerate(small_kernels(3, 60, most_lanes=40, most_statements=2, slopes=(0,))):
             self.agrees(kernel, WAVES[number % len(WAVES)])
