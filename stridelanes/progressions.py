@@ -30,11 +30,6 @@ def last_cell(cells):
     return first + step * (many - 1)
 
 
-def has_cell(cells, cell):
-    """Tell whether a cell is one of a progression."""
-    return cells[0] <= cell <= last_cell(cells) and (cell - cells[0]) % cells[1] == 0
-
-
 def count_below(cells, end):
     """Return how many cells of a progression are less than a cell."""
     first, step, many = cells
