@@ -5,8 +5,7 @@ is said, it does not count whether they are in one phase.
 """
 
 from stridelanes.guards import has_lane
-from stridelanes.meetings import (count_harmful_by_waves, count_harmful_meetings, count_meetings,
-                                  first_harmful_meeting, nth_meeting)
+from stridelanes.meetings import count_harmful_meetings, count_meetings, first_harmful_meeting, nth_meeting
 from stridelanes.squares import count_triangle, nth_triangle
 from stridelanes.statements import ACCESSES, WRITTEN, count_up_to
 
@@ -100,11 +99,6 @@ def count_harmful_between(one, other, wave):
         return count_harmful_meetings(one.side, other.side, wave)
     # Of one put either all lanes put the same integer, or no two do.
     return 0 if are_agreeing(one, one, 0, 1) else count_between(one, one, wave)
-
-
-def count_harmful_by_waves_between(one, other, waves):
-    """Return for each wave of a list how many harmful races of two rivals of different statements count."""
-    return count_harmful_by_waves(one.side, other.side, waves)
 
 
 def first_harmful_between(one, other, wave):

@@ -2,9 +2,9 @@
 
 from stridelanes.checks import check_two_statements, check_wave
 from stridelanes.choosing import rivals_of_two
-from stridelanes.doings import (count_harmful_by_waves_between, doings_by_statements, is_any_harmful, rivals_between,
-                                rivals_within)
+from stridelanes.doings import doings_by_statements, is_any_harmful, rivals_between, rivals_within
 from stridelanes.kernels import Kernel
+from stridelanes.meetings import count_harmful_by_waves
 
 # Statements touch also through one lane and through lanes of one wave, so no lanes count as being together.
 NO_WAVE = 0
@@ -20,10 +20,10 @@ def touching_and_parting(rivals, wave):
     """Return a tuple for two statements, by all their rivals: whether they touch, and whether they need parting."""
     touching = False
     for one, other in rivals:
-        all_meetings, races = count_harmful_by_waves_between(one, other, [NO_WAVE, wave])
+        meetings, races = count_harmful_by_waves(one.side, other.side, [NO_WAVE, wave])
         if races > 0:
             return (True, True)
-        touching = touching or all_meetings > 0
+        touching = touching or meetings > 0
     return (touching, False)
 
 
